@@ -1,0 +1,1 @@
+"""Recastle: rules that turn programs into other programs."""
