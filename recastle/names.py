@@ -3,7 +3,7 @@
 All walks go level by level, not by recursion: a tree may be as deep as it has parts.
 """
 
-from recastle.trees import LEAF_SIGNS, parts, placed_parts, with_parts
+from recastle.trees import LEAF_SIGNS, all_parts, parts, with_parts
 
 LETTERS = "abcdefghijklmnopqrstuvwxyz"
 KEPT_WORDS = ("let", "in", "if", "then", "else", "say", "ask", "stop", "where", "quiet", "number")
@@ -105,7 +105,7 @@ def unused_word(used):
 
 def words_used(tree, leaves):
     used = {}
-    for place, part in placed_parts(tree):
+    for part in all_parts(tree):
         if part[0] == "let":
             used[part[1]] = True
         for name in names_at(part):

@@ -26,8 +26,20 @@ def with_parts(tree, parts):
     return tree[:parts_begin(tree)] + tuple(parts)
 
 
-def placed_parts(tree):
+def all_parts(tree):
     # Level by level, not by recursion: a tree may be as deep as it has parts.
+    found = []
+    level = [tree]
+    while level:
+        found.extend(level)
+        deeper = []
+        for part in level:
+            deeper.extend(parts(part))
+        level = deeper
+    return found
+
+
+def placed_parts(tree):
     found = []
     level = [((), tree)]
     while level:
@@ -42,7 +54,7 @@ def placed_parts(tree):
 
 
 def size(tree):
-    return len(placed_parts(tree))
+    return len(all_parts(tree))
 
 
 def places(tree):

@@ -102,6 +102,89 @@ def nameless_free(tree):
     return found
 
 
+def nameless_piece(piece):
+    """A piece's tree, nameless, with the number of each of its names in the name's place."""
+    names, tree = piece
+    return put_nameless(nameless(tree), {name: ("hole", number) for number, name in enumerate(names)})
+
+
+def nameless_put_in(tree, leaves, depth=0):
+    """A nameless piece with leaves in the place of its names, at which lets of the piece stand around."""
+    sign = tree[0]
+    if sign == "hole":
+        leaf = leaves[tree[1]]
+        return ("bound", leaf[1] + depth) if leaf[0] == "bound" else leaf
+    if sign == "gap":
+        return ("gap", tree[1], tuple(nameless_put_in(atom, leaves, depth) for atom in tree[2]))
+    if sign in ("num", "name", "ask", "stop", "bound"):
+        return tree
+    if sign == "let":
+        return ("let", nameless_put_in(tree[1], leaves, depth), nameless_put_in(tree[2], leaves, depth + 1))
+    return (sign,) + tuple(nameless_put_in(part, leaves, depth) for part in tree[1:])
+
+
+def nameless_filled(shape, filling):
+    """A nameless shape, filled with nameless pieces: nothing can be caught there."""
+    if shape[0] == "gap":
+        leaves = [filling[atom[1]] if atom[0] == "gap" else atom for atom in shape[2]]
+        return nameless_put_in(filling[shape[1]], leaves)
+    if shape[0] in ("num", "name", "ask", "stop", "bound"):
+        return shape
+    return (shape[0],) + tuple(nameless_filled(part, filling) for part in shape[1:])
+
+
+def nameless_cut(tree, atoms, depth=0):
+    """The piece that a part of a nameless tree is, or None where it has a name that no atom tells."""
+    sign = tree[0]
+    if sign == "bound":
+        if tree[1] < depth:
+            return tree
+        outer = ("bound", tree[1] - depth)
+        return ("hole", atoms.index(outer)) if outer in atoms else None
+    if sign in ("num", "name", "ask", "stop"):
+        return tree
+    if sign == "gap":
+        inner = [nameless_cut(atom, atoms, depth) for atom in tree[2]]
+        return None if None in inner else ("gap", tree[1], tuple(inner))
+    inner = [
+        nameless_cut(part, atoms, depth + (sign == "let" and number == 1))
+        for number, part in enumerate(tree[1:])
+    ]
+    return None if None in inner else (sign,) + tuple(inner)
+
+
+def nameless_quiet(tree, kinds):
+    if tree[0] == "gap":
+        return tree[1] in kinds
+    if tree[0] in ("say", "ask", "stop"):
+        return False
+    return all(nameless_quiet(part, kinds) for part in tree[1:] if isinstance(part, tuple))
+
+
+def nameless_of_kind(tree, kind, kinds):
+    if kind == "number":
+        return tree[0] == "num" or tree[0] == "gap" and kinds.get(tree[1]) == "number"
+    return kind is None or nameless_quiet(tree, kinds)
+
+
+def nameless_fit(shape, tree, wanted, kinds, filling):
+    """Whether a nameless shape fits a nameless tree; its nameless pieces go into filling."""
+    if shape[0] == "gap":
+        piece = nameless_cut(tree, list(shape[2]))
+        if piece is None or not nameless_of_kind(piece, wanted.get(shape[1]), kinds):
+            return False
+        return filling.setdefault(shape[1], piece) == piece
+    if shape[0] != tree[0] or len(shape) != len(tree):
+        return False
+    for one, other in zip(shape[1:], tree[1:]):
+        if not isinstance(one, tuple):
+            if one != other:
+                return False
+        elif not nameless_fit(one, other, wanted, kinds, filling):
+            return False
+    return True
+
+
 def chance_leaf(chance, words):
     return chance.choice([
         ("num", chance.randrange(3)), name(chance.choice(words)), ("gap", chance.choice("gh"), ()),
@@ -132,5 +215,53 @@ def chance_dicts(seed, many, words="xyz"):
     chance = random.Random(seed)
     return [
         {word: chance_leaf(chance, words) for word in words if chance.random() < 0.7}
+        for number in range(many)
+    ]
+
+
+# The gaps of the rules below, with as many atoms as each has.
+ATOMS_OF = {"a": 0, "b": 0, "n": 0, "p": 1, "q": 1, "r": 2, "s": 3}
+LET_WORDS = ["x", "y", "z", "u", "v", "w"]
+
+
+def chance_shape(chance, depth, scope, free_words):
+    """A shape whose names are all bound, its lets with names of their own."""
+    fitting = [word for word, many in ATOMS_OF.items() if many <= len(scope)]
+    if depth == 0 or chance.random() < 0.15:
+        leaf = chance.random()
+        if scope and leaf < 0.2:
+            return name(chance.choice(scope))
+        if leaf < 0.3:
+            return chance.choice([("num", chance.randrange(3)), ("ask", "k"), ("stop", "k")])
+        word = chance.choice(fitting)
+        return gap(word, *[name(atom) for atom in chance.sample(scope, ATOMS_OF[word])])
+    sign = chance.choice(["say", "add", "sub", "if", "let", "let", "let"])
+    if sign == "let" and free_words:
+        word = free_words.pop(0)
+        first = chance_shape(chance, depth - 1, scope, free_words)
+        return let(word, first, chance_shape(chance, depth - 1, scope + [word], free_words))
+    many = {"say": 1, "if": 3}.get(sign, 2)
+    sign = "add" if sign == "let" else sign
+    return (sign,) + tuple(chance_shape(chance, depth - 1, scope, free_words) for number in range(many))
+
+
+def chance_shapes(seed, many, depth=3):
+    chance = random.Random(seed)
+    return [chance_shape(chance, depth, [], list(LET_WORDS)) for number in range(many)]
+
+
+def chance_piece(chance, word, depth, words="xyzuvk"):
+    """A piece for the gap of that word; n is a number's."""
+    names = tuple(chance.sample(words, ATOMS_OF[word]))
+    if word == "n":
+        return ((), ("num", chance.randrange(3)))
+    tree = chance_tree(chance, depth, list(words) + list(names) * 2)
+    return (names, tree)
+
+
+def chance_fillings(seed, many, depth=2):
+    chance = random.Random(seed)
+    return [
+        {word: chance_piece(chance, word, depth) for word in ATOMS_OF}
         for number in range(many)
     ]

@@ -185,6 +185,62 @@ class FormTest(unittest.TestCase):
                 bound += [node.arg for node in nodes_of(path, ast.arg)]
                 self.assertEqual([word for word in bound if hasattr(builtins, word)], [])
 
+    def test_no_local_is_called_like_an_import_or_a_class(self):
+        for path in FILES:
+            with self.subTest(path.name):
+                taken = [alias.name for node in nodes_of(path, ast.ImportFrom) for alias in node.names]
+                taken += [node.name for node in nodes_of(path, ast.ClassDef)]
+                tops = [node for node in tree_of(path).body if isinstance(node, ast.FunctionDef)]
+                bound = [node.name for node in tops]
+                bound += [node.arg for node in nodes_of(path, ast.arg)]
+                bound += [node.id for node in nodes_of(path, ast.Name) if isinstance(node.ctx, ast.Store)]
+                self.assertEqual([word for word in bound if word in taken], [])
+
+    def test_texts_in_braces_are_plain_names(self):
+        for path in FILES:
+            with self.subTest(path.name):
+                for node in nodes_of(path, ast.FormattedValue):
+                    self.assertIsInstance(node.value, ast.Name)
+                    self.assertIsNone(node.format_spec)
+
+    def test_no_name_is_a_method_here_and_a_value_there(self):
+        methods = [
+            inner.name for path in FILES for node in nodes_of(path, ast.ClassDef)
+            for inner in node.body if isinstance(inner, ast.FunctionDef)
+        ]
+        for path in FILES:
+            for node in nodes_of(path, ast.Attribute):
+                if isinstance(node.ctx, ast.Store):
+                    self.assertNotIn(node.attr, methods)
+                    self.assertNotIn(node.attr, METHODS + "sort args encode format".split())
+
+    def test_walks_are_walked_on_the_spot(self):
+        # Those that this rule names may stand behind `in`, or as the first thing in one of these.
+        takers = "list tuple dict sorted sum any all enumerate zip min max".split()
+        for path in FILES:
+            with self.subTest(path.name):
+                allowed = []
+                for node in ast.walk(tree_of(path)):
+                    if isinstance(node, (ast.For, ast.comprehension)):
+                        allowed.append(ast.dump(node.iter, include_attributes=True))
+                    if isinstance(node, ast.Call) and isinstance(node.func, ast.Name) and node.func.id in takers:
+                        allowed.extend(ast.dump(inner, include_attributes=True) for inner in node.args[:1])
+                for node in nodes_of(path, ast.Call):
+                    word = getattr(node.func, "id", None) or getattr(node.func, "attr", None)
+                    if word in "zip enumerate reversed range items keys values".split():
+                        self.assertIn(ast.dump(node, include_attributes=True), allowed, f"line {node.lineno}")
+
+    def test_sets_are_not_kept(self):
+        for path in FILES:
+            with self.subTest(path.name):
+                allowed = []
+                for node in nodes_of(path, ast.Call):
+                    if isinstance(node.func, ast.Name) and node.func.id in ("sorted", "len"):
+                        allowed.extend(ast.dump(inner, include_attributes=True) for inner in node.args)
+                for node in nodes_of(path, ast.Call):
+                    if isinstance(node.func, ast.Name) and node.func.id in ("set", "frozenset"):
+                        self.assertIn(ast.dump(node, include_attributes=True), allowed)
+
 
 if __name__ == "__main__":
     unittest.main()
