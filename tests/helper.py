@@ -211,6 +211,16 @@ def chance_trees(seed, many, depth=4, words="xyz"):
     return [chance_tree(chance, depth, words) for number in range(many)]
 
 
+def without_gaps(tree):
+    if tree[0] == "gap":
+        return ("num", len(tree[2]))
+    return tuple(without_gaps(part) if isinstance(part, tuple) else part for part in tree)
+
+
+def chance_programs(seed, many, depth=4, words="xyz"):
+    return [without_gaps(tree) for tree in chance_trees(seed, many, depth, words)]
+
+
 def chance_dicts(seed, many, words="xyz"):
     chance = random.Random(seed)
     return [
@@ -265,3 +275,32 @@ def chance_fillings(seed, many, depth=2):
         {word: chance_piece(chance, word, depth) for word in ATOMS_OF}
         for number in range(many)
     ]
+
+
+# What is no scale: no dict, a wrong key, no tuple, a wrong length, no whole number, a number out of bounds.
+NO_SCALES = [
+    None, 0, 1, True, "", "say", (), [], [("say", (1, 1))], (("say", (1, 1)),),
+    {"num": (1,)}, {"name": (1,)}, {"ask": (1,)}, {"stop": (1,)}, {"gap": (1,)}, {"": (1, 1)}, {"Say": (1, 1)},
+    {"says": (1, 1)}, {None: (1, 1)}, {1: (1, 1)}, {True: (1, 1)}, {("say",): (1, 1)}, {"+": (1, 1, 1)},
+    {"say": None}, {"say": 1}, {"say": True}, {"say": "11"}, {"say": [1, 1]}, {"say": {1: 1}}, {"say": {}},
+    {"say": ()}, {"say": (1,)}, {"say": (1, 1, 1)}, {"add": (1, 1)}, {"add": (1, 1, 1, 1)}, {"sub": (1, 1)},
+    {"sub": (1, 1, 1, 1)}, {"mul": (1, 1)}, {"mul": (1, 1, 1, 1)}, {"then": (1, 1)}, {"then": (1, 1, 1, 1)},
+    {"if": (1, 1, 1)}, {"if": (1, 1, 1, 1, 1)}, {"let": (1, 1)}, {"let": (1, 1, 1, 1)},
+    {"say": ("1", 1)}, {"say": (1, "1")}, {"say": (1, None)}, {"say": (None, 1)}, {"say": ((1,), 1)},
+    {"say": (1, [1])}, {"say": (True, 1)}, {"say": (1, True)}, {"add": (1, 1, True)}, {"if": (1, 1, 1, True)},
+    {"let": (1, True, 1)}, {"say": (1, {})}, {"say": (1, "")},
+    {"say": (0, 1)}, {"say": (10, 1)}, {"say": (-1, 1)}, {"say": (1, 0)}, {"say": (1, 4)}, {"say": (1, -1)},
+    {"say": (10 ** 30, 1)}, {"add": (1, 4, 1)}, {"add": (1, 1, 4)}, {"add": (1, 0, 1)}, {"add": (1, 1, 0)},
+    {"if": (1, 1, 1, 4)}, {"if": (1, 1, 1, 0)}, {"if": (1, 1, 4, 1)}, {"if": (0, 1, 1, 1)}, {"let": (10, 1, 1)},
+    {"let": (1, 1, 4)}, {"then": (1, 1, 0)}, {"mul": (0, 1, 1)}, {"sub": (1, 4, 1)}, {"say": (False, 1)},
+    # The wrong one stands behind right ones.
+    {"say": (9, 3), "add": (1, 1, 4)}, {"say": (1, 1), "num": (1,)}, {"if": (1, 1, 1, 1), "let": [1, 1, 1]},
+]
+
+SCALES = [
+    {}, {"say": (1, 1)}, {"say": (9, 3)}, {"add": (2, 3, 1)}, {"let": (1, 1, 2), "if": (3, 1, 2, 3)},
+    {"say": (9, 3), "add": (9, 3, 3), "sub": (9, 3, 3), "mul": (9, 3, 3), "then": (9, 3, 3), "if": (9, 3, 3, 3),
+     "let": (9, 3, 3)},
+    {"say": (2, 1), "add": (3, 1, 2), "sub": (4, 2, 1), "mul": (5, 1, 3), "then": (6, 3, 1), "if": (7, 1, 2, 3),
+     "let": (8, 2, 3)},
+]
