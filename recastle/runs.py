@@ -1,6 +1,6 @@
 """Programs run: the deeds they do and how they end."""
 
-from recastle.trees import LEAF_SIGNS, parts
+from recastle.courses import Course
 
 
 def wrapped(number):
@@ -15,32 +15,10 @@ def reckoned(sign, one, other):
     return wrapped(one * other)
 
 
-def with_name(known, name, number):
-    within = dict(known)
-    within[name] = number
-    return within
-
-
-def run_at_first(tree):
-    # Whether and how the rest is run hangs on what the first part ended with.
-    if tree[0] in ("then", "if", "let"):
-        return parts(tree)[:1]
-    return parts(tree)
-
-
-class Course:
-    # What is still to be run waits in a row, not in a recursion: a program may be as deep as it has parts.
+class NumberCourse(Course):
     def __init__(self, asked):
+        Course.__init__(self)
         self.asked = asked
-        self.deeds = []
-        self.ends = []
-        self.waiting = []
-
-    def await_run(self, tree, known):
-        self.waiting.append((tree, known, False))
-
-    def await_rest(self, tree, known):
-        self.waiting.append((tree, known, True))
 
     def end_leaf(self, leaf, known):
         if leaf[0] == "num":
@@ -51,38 +29,16 @@ class Course:
             self.deeds.append(leaf)
             self.ends.append(self.asked.get(leaf[1], 0))
 
-    def begin(self, tree, known):
-        if tree[0] in LEAF_SIGNS:
-            self.end_leaf(tree, known)
-        else:
-            self.await_rest(tree, known)
-            for part in reversed(run_at_first(tree)):
-                self.await_run(part, known)
+    def end_two(self, sign, one, other):
+        self.ends.append(reckoned(sign, one, other))
 
-    def go_on(self, tree, known):
-        end = self.ends.pop()
-        if tree[0] == "say":
-            self.deeds.append(("say", end))
-            self.ends.append(end)
-        elif tree[0] == "then":
-            self.await_run(tree[2], known)
-        elif tree[0] == "if":
-            self.await_run(tree[2] if end != 0 else tree[3], known)
-        elif tree[0] == "let":
-            self.await_run(tree[3], with_name(known, tree[1], end))
-        else:
-            self.ends.append(reckoned(tree[0], self.ends.pop(), end))
+    def go_by(self, end, tree, known):
+        self.await_run(tree[2] if end != 0 else tree[3], known)
 
 
 def run(tree, known=None, asked=None):
-    course = Course(asked or {})
-    course.await_run(tree, known or {})
-    while course.waiting:
-        item = course.waiting.pop()
-        if item[2]:
-            course.go_on(item[0], item[1])
-        elif item[0][0] == "stop":
-            return (course.deeds, item[0])
-        else:
-            course.begin(item[0], item[1])
+    course = NumberCourse(asked or {})
+    course.run_whole(tree, known or {})
+    if course.halt is not None:
+        return (course.deeds, course.halt)
     return (course.deeds, ("is", course.ends.pop()))

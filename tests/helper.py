@@ -2,6 +2,9 @@
 
 import random
 
+from recastle.errors import NoRule
+from recastle.rules import form, gaps_of
+
 LEAVES = [
     ("num", 0),
     ("num", 10 ** 30 - 1),
@@ -304,3 +307,104 @@ SCALES = [
     {"say": (2, 1), "add": (3, 1, 2), "sub": (4, 2, 1), "mul": (5, 1, 3), "then": (6, 3, 1), "if": (7, 1, 2, 3),
      "let": (8, 2, 3)},
 ]
+
+
+def gap_words(tree):
+    """The gaps of a shape in the order of places, each as often as it stands there."""
+    if tree[0] == "gap":
+        return [tree[1]]
+    return [word for part in tree[1:] if isinstance(part, tuple) for word in gap_words(part)]
+
+
+def put_for_gaps(tree, trees):
+    """A plain shape with trees in the place of the gaps that they tell."""
+    if tree[0] == "gap":
+        return trees.get(tree[1], tree)
+    return tuple(put_for_gaps(part, trees) if isinstance(part, tuple) else part for part in tree)
+
+
+def called_alike(words, kinds, *shapes):
+    """Shapes with numbers for gaps in the order of the words, and their kinds, so that calling them makes no odds."""
+    numbers = {}
+    for word in words:
+        numbers.setdefault(word, len(numbers))
+    trees = {word: ("gap", number, ()) for word, number in numbers.items()}
+    told = sorted((numbers[word], kind) for word, kind in kinds)
+    return (told,) + tuple(put_for_gaps(shape, trees) for shape in shapes)
+
+
+def chance_plain_shape(chance, depth, gaps="abc", signs=("say", "add", "add", "then", "if")):
+    """A shape without lets, its gaps without atoms."""
+    if depth == 0 or chance.random() < 0.2:
+        if chance.random() < 0.6:
+            return gap(chance.choice(gaps))
+        return chance.choice([("num", 0), ("num", 1), ("ask", "k"), ("stop", "k")])
+    sign = chance.choice(signs)
+    many = {"say": 1, "if": 3}.get(sign, 2)
+    return (sign,) + tuple(chance_plain_shape(chance, depth - 1, gaps, signs) for number in range(many))
+
+
+def chance_kinds(chance, shape, likely=0.4):
+    return tuple(
+        (word, chance.choice(["quiet", "number"])) for word in sorted(set(gap_words(shape))) if chance.random() < likely)
+
+
+def chance_plain_rules(chance, many, is_fit, depth=2):
+    """Plain rules, as many, of which is_fit is true."""
+    found = []
+    while len(found) < many:
+        left = chance_plain_shape(chance, depth)
+        rule = (left, chance_plain_shape(chance, depth - 1), chance_kinds(chance, left))
+        if is_fit(rule):
+            found.append(rule)
+    return found
+
+
+def chance_of_kind(chance, kind, depth=2):
+    """A program that may stand in a gap of the kind."""
+    if kind == "number":
+        return ("num", chance.randrange(3))
+    if kind == "quiet" and (depth == 0 or chance.random() < 0.5):
+        return chance.choice([("num", 0), name("x"), name("y")])
+    if kind == "quiet":
+        return (chance.choice(["add", "then"]),) + tuple(chance_of_kind(chance, kind, depth - 1) for part in range(2))
+    return put_for_gaps(chance_plain_shape(chance, depth, "xy"), {"x": name("x"), "y": name("y")})
+
+
+def is_rule(rule):
+    try:
+        form(rule)
+    except NoRule:
+        return False
+    return True
+
+
+def chance_rules(seed, many, depth=3):
+    """Rules with lets, many of which have a paper: the right is made of the left or of a part of it."""
+    chance = random.Random(seed)
+    shapes = chance_shapes(seed + 1, many * 8, depth)
+    found = []
+    for number, left in enumerate(shapes):
+        rights = [left, shapes[number - 1], ("then", ("num", 1), left), ("add", left, ("num", 0)),
+                  ("let", "k", left, ("name", "k")), ("if", ("num", 2), left, ("stop", "k"))]
+        rights += [part for part in left[1:] if isinstance(part, tuple)]
+        kinds = tuple((word, "number" if word == "n" else "quiet") for word in "abnpq" if chance.random() < 0.5)
+        rule = (left, chance.choice(rights), tuple(pair for pair in kinds if pair[0] in gaps_of(left)))
+        if is_rule(rule):
+            found.append(rule)
+    return found[:many]
+
+
+def chance_filling(chance, rule):
+    """Pieces for the gaps of a rule, of their kinds."""
+    kinds = dict(rule[2])
+    filling = {}
+    for word, many in gaps_of(rule[0]).items():
+        names = tuple(chance.sample("uvwxyz", many))
+        tree = without_gaps(chance_tree(chance, 2, "xyk" + "".join(names)))
+        if word in kinds:
+            tree = both(name(chance.choice(("x",) + names)), ("num", chance.randrange(3)))
+        if kinds.get(word) == "number":
+            tree = ("num", chance.choice([0, 1, 10 ** 30 - 1]))
+        filling[word] = (names, tree)
+    return filling
