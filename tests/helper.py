@@ -3,6 +3,7 @@
 import random
 
 from recastle.errors import NoRule
+from recastle.reads import read_rule
 from recastle.rules import form, gaps_of
 
 LEAVES = [
@@ -47,6 +48,14 @@ def let(word, first, second):
 
 def both(one, other):
     return ("add", one, other)
+
+
+def rules(*texts):
+    """The rules that are written so, each of which is one."""
+    found = [read_rule(text) for text in texts]
+    for rule in found:
+        form(rule)
+    return found
 
 
 def say_chain(depth, leaf):
@@ -333,6 +342,10 @@ def called_alike(words, kinds, *shapes):
     return (told,) + tuple(put_for_gaps(shape, trees) for shape in shapes)
 
 
+def rule_called_alike(rule):
+    return called_alike(gap_words(rule[0]), rule[2], rule[0], rule[1])
+
+
 def chance_plain_shape(chance, depth, gaps="abc", signs=("say", "add", "add", "then", "if")):
     """A shape without lets, its gaps without atoms."""
     if depth == 0 or chance.random() < 0.2:
@@ -408,3 +421,13 @@ def chance_filling(chance, rule):
             tree = ("num", chance.choice([0, 1, 10 ** 30 - 1]))
         filling[word] = (names, tree)
     return filling
+
+
+def chance_pairs(chance, rule, many):
+    """Pairs of programs, before and behind, as many as told, that a plain rule makes."""
+    kinds = dict(rule[2])
+    pairs = []
+    for number in range(many):
+        pieces = {word: chance_of_kind(chance, kinds.get(word)) for word in set(gap_words(rule[0]))}
+        pairs.append((put_for_gaps(rule[0], pieces), put_for_gaps(rule[1], pieces)))
+    return pairs

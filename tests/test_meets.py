@@ -5,14 +5,14 @@ import unittest
 from recastle.errors import NoFall, NoPlain, NoScale, RecastError, TooGreat
 from recastle.fits import fit
 from recastle.meets import meets, parted
-from recastle.reads import read, read_rule
+from recastle.reads import read
 from recastle.rules import form
 from recastle.shows import shown
 from recastle.trees import part_at, places
 from recastle.turns import step, steps, turned, turned_by
 from recastle.worth import falls, worth
 from tests.helper import (
-    NO_SCALES, called_alike, chance_of_kind, chance_plain_rules, gap_words, is_rule, put_for_gaps,
+    NO_SCALES, called_alike, chance_of_kind, chance_plain_rules, gap_words, is_rule, put_for_gaps, rules,
 )
 
 NEST = "((?a + ?b) + ?c) -> (?a + (?b + ?c))"
@@ -23,13 +23,6 @@ GROUP = ["(0 + ?a) -> ?a", "((say ?a) + ?a) -> 0", NEST]
 GREAT_SCALE = {"mul": (9, 2, 3)}
 GREAT = "(say (say ((((1 * 1) * 1) * 1) * 1)))"
 GREATER = "(say " + GREAT + ")"
-
-
-def rules(*texts):
-    found = [read_rule(text) for text in texts]
-    for rule in found:
-        form(rule)
-    return found
 
 
 class NoShape(Exception):

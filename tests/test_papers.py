@@ -4,7 +4,7 @@ import unittest
 from recastle.fits import filled
 from recastle.papers import is_paper, paper, side_run
 from recastle.reads import read, read_rule
-from recastle.rules import form, gaps_of
+from recastle.rules import form
 from recastle.runs import run
 from recastle.sums import minus, plus, times
 from recastle.tries import tried

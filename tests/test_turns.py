@@ -5,14 +5,13 @@ import unittest
 from recastle.errors import NoFall, NoPlace, NoScale, RecastError, TooGreat
 from recastle.fits import fit
 from recastle.names import free_names
-from recastle.reads import read, read_rule
-from recastle.rules import form
+from recastle.reads import read
 from recastle.runs import run
 from recastle.shows import shown
 from recastle.trees import part_at, places
 from recastle.turns import step, steps, turned, turned_by
 from recastle.worth import worth
-from tests.helper import NO_SCALES, chance_programs, nameless, say_chain, wide_tree
+from tests.helper import NO_SCALES, chance_programs, nameless, rules, say_chain, wide_tree
 
 # All of them are right: a program runs behind a step as it ran before.
 TEXTS = [
@@ -28,13 +27,6 @@ TEXTS = [
     "((let x = ?a in ?b[x]) + ?c) -> (let x = ?a in (?b[x] + ?c))",
 ]
 SCALE = {"let": (2, 1, 1), "add": (1, 2, 2)}
-
-
-def rules(*texts):
-    found = [read_rule(text) for text in texts]
-    for rule in found:
-        form(rule)
-    return found
 
 
 RULES = rules(*TEXTS)
